@@ -1,0 +1,1 @@
+"""Askpaper: papers of questions, gone through by hand, by pages and in print."""
