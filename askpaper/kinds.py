@@ -1,7 +1,7 @@
 """The five kinds of answers: what fits, how it is written and read, and its rank."""
 
-from askpaper.errors import NoAnswer, NoKind, NoNumber
-from askpaper.words import are_figures, are_unlike_names, figures_worth, is_whole, number_of
+from askpaper.errors import NoAnswer, NoKind
+from askpaper.words import are_figures, are_unlike_names, figures_worth, is_whole, number_or_none
 
 WRITTEN_TRUTHS = {"yes": True, "no": False}
 SAMPLE_NAMES = ("a", "b", "c", "d", "e", "f")
@@ -9,14 +9,6 @@ MOST_NAMES = 6
 FEWEST_WORDS = 2
 MOST_WORDS = 6
 MOST_FIGURES = 60
-
-
-def number_or_none(text):
-    """Read a written number; None where it is none."""
-    try:
-        return number_of(text)
-    except NoNumber:
-        return None
 
 
 def money_shown(hundredths):

@@ -51,3 +51,11 @@ def number_of(text, most=60):
         raise NoNumber(f"no written number: {text!r}")
     worth = figures_worth(figures)
     return -worth if below else worth
+
+
+def number_or_none(text):
+    """Read a written number; None where it is none."""
+    try:
+        return number_of(text)
+    except NoNumber:
+        return None

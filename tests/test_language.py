@@ -45,6 +45,35 @@ def fields_of(tree):
     return {node.attr for node in ast.walk(tree) if isinstance(node, ast.Attribute) and isinstance(node.ctx, ast.Store)}
 
 
+def classes_of(tree):
+    return {part.name for part in tree.body if isinstance(part, ast.ClassDef)}
+
+
+def imported_by(tree):
+    return {alias.name for part in tree.body if isinstance(part, ast.ImportFrom) for alias in part.names}
+
+
+def drawn_from(tree):
+    return {part.module.partition(".")[2] + ".py" for part in tree.body if isinstance(part, ast.ImportFrom)}
+
+
+def names_where_classes_may_stand(tree):
+    """The names that are called, are bases, or stand by isinstance and except."""
+    places = []
+    for node in ast.walk(tree):
+        if isinstance(node, ast.Call):
+            places.append(node.func)
+            if isinstance(node.func, ast.Name) and node.func.id == "isinstance":
+                places.extend(ast.walk(node.args[1]))
+            if isinstance(node.func, ast.Attribute) and node.func.attr == "__init__":
+                places.append(node.func.value)
+        if isinstance(node, ast.ClassDef):
+            places.extend(node.bases)
+        if isinstance(node, ast.ExceptHandler):
+            places.extend(ast.walk(node.type))
+    return [place for place in places if isinstance(place, ast.Name)]
+
+
 class LanguageTest(unittest.TestCase):
     def setUp(self):
         self.texts = {path.name: path.read_text(encoding="utf-8") for path in package_files()}
@@ -103,6 +132,38 @@ class LanguageTest(unittest.TestCase):
                 given = {part.targets[0].id for part in source.body if isinstance(part, ast.Assign)}
                 for name in node.names:
                     self.assertIn(name.name, defined | given, place)
+
+    def test_no_two_files_draw_from_one_another(self):
+        draws = {name: drawn_from(tree) for name, tree in self.trees.items()}
+        for name in draws:
+            reached = set(draws[name])
+            while not set().union(reached, *[draws[other] for other in reached]) <= reached:
+                reached = set().union(reached, *[draws[other] for other in reached])
+            self.assertNotIn(name, reached)
+
+    def test_classes_are_not_handed_on(self):
+        classes = set().union(*[classes_of(tree) for tree in self.trees.values()])
+        for file, tree in self.trees.items():
+            fit = names_where_classes_may_stand(tree)
+            for node in ast.walk(tree):
+                if isinstance(node, ast.Name) and node.id in classes:
+                    self.assertTrue(any(node is other for other in fit), f"{file}:{node.lineno}")
+
+    def test_no_local_is_called_like_a_class_or_an_import(self):
+        for file, tree in self.trees.items():
+            given = classes_of(tree) | imported_by(tree)
+            for node in ast.walk(tree):
+                if isinstance(node, ast.arg):
+                    self.assertNotIn(node.arg, given, f"{file}:{node.lineno}")
+                if isinstance(node, ast.Name) and isinstance(node.ctx, ast.Store):
+                    self.assertNotIn(node.id, given, f"{file}:{node.lineno}")
+
+    def test_texts(self):
+        for place, node in self.each_node():
+            if isinstance(node, ast.Constant) and isinstance(node.value, str):
+                self.assertNotIn("%", node.value, place)
+            if isinstance(node, ast.FormattedValue):
+                self.assertIsNone(node.format_spec, place)
 
     def test_names(self):
         for place, node in self.each_node():
