@@ -1,6 +1,7 @@
 """Things that several tests hand in, and how they hold what is told against what is like it."""
 
 from askpaper.papers import Ask, Check
+from askpaper.reading import read_paper
 from askpaper.sayings import Both, Compare, Either, Is, Not
 
 NO_TEXTS = (
@@ -55,3 +56,8 @@ def paper_tree(paper):
     """All that a paper has, as tuples and lists that can be compared."""
     totals = [(name, list(parts)) for name, parts in paper.totals]
     return ("paper", paper.name, [sheet_tree(sheet) for sheet in paper.sheets], totals)
+
+
+def paper_of(*rows):
+    """A paper of these rows of text behind its own."""
+    return read_paper("\n".join(("paper p",) + rows))
