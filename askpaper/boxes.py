@@ -4,6 +4,12 @@ from askpaper.going import Going
 from askpaper.sayings import Is
 
 
+def range_in(box, kinds, question, k):
+    """Tell the range of ranks that a box gives to a question and a place."""
+    kind = kinds[question]
+    return box.get((question, k), (kind.low, kind.high))
+
+
 def cut_out(number, low):
     """Tell behind which rank a range from low on is cut to get at one rank in it."""
     return number - 1 if low < number else number
@@ -45,9 +51,8 @@ class ByBox(Going):
         return list(range(span[0]))
 
     def put(self, question, thing):
-        kind = self.kinds[question]
         self.log.append(("ask", question, thing))
-        self.note(question, thing, self.box.get((question, thing), (kind.low, kind.high)))
+        self.note(question, thing, range_in(self.box, self.kinds, question, thing))
 
     def span_of(self, name, thing):
         """Tell the range of a question's rank, or the least and the greatest worth of a sum."""

@@ -1,4 +1,4 @@
-"""A second telling of looks and goings, worked from a paper's rows of text, to hold the program's against."""
+"""A second telling of looks, goings, covers, the looker and runs, to hold the program's own against."""
 
 import re
 
@@ -200,7 +200,7 @@ class PlainPaper:
             if how == "is":
                 return self.answers[key] == {"yes": True, "no": False}.get(what, what)
             number = rank_of(self.kinds[name], self.answers[key])
-        return {"<": number < int(what), "=": number == int(what), ">": number > int(what)}[how]
+        return compared_so(number, how, int(what))
 
     def worth(self, name):
         if name is None:
@@ -296,3 +296,116 @@ class PlainPaper:
         if how in "<>":
             return name, k, number - 1 if how == "<" else number
         return name, k, number - 1 if low < number else number
+
+    # The cover
+
+    def cover(self, most, fixed=()):
+        nodes, waiting, splits = [], [dict(fixed)], 0
+        while waiting:
+            box = waiting.pop(0)
+            sure, log, doubles, split = self.going_by(box)
+            if sure or splits == most:
+                ranges = [(*row[1:], *self.ranges[row[1:]]) for row in log if row[0] == "ask"]
+                nodes.append(("leaf", sure, log, ranges, doubles))
+            else:
+                *key, cut = split
+                low, high = self.ranges[tuple(key)]
+                nodes.append(("split", *split, len(nodes) + len(waiting) + 1, len(nodes) + len(waiting) + 2))
+                waiting += [{**box, tuple(key): span} for span in ((low, cut), (cut + 1, high))]
+                splits += 1
+        return nodes
+
+    def placed(self, log):
+        """The rows of a straight going with places in the stead of things, and without answers."""
+        lists = {row[1]: row[3] for row in log if row[0] == "ask" and isinstance(self.kinds[row[1]], Names)}
+        eaches = {line[1]: sheet.each for sheet in self.sheets for line in sheet.lines if line[0] != "way"}
+        return [row if row == ("end",) else (*row[:2], lists[eaches[row[1]]].index(row[2]) if row[2] else 0)
+                for row in log]
+
+    # The looker
+
+    def come_to(self, question, most):
+        return self.told(self.cover(most), lambda leaf: self.asked_ahead(leaf, "ask", question))
+
+    def met(self, check, most):
+        return self.told(self.cover(most), lambda leaf: self.asked_ahead(leaf, "pass", check))
+
+    def two_ways(self, name, most):
+        place = [sheet.name for sheet in self.sheets].index(name)
+        return self.told(self.cover(most), lambda leaf: [span for span in leaf[3] if self.home[span[0]][0] <= place]
+                         if name in leaf[4] else None)
+
+    def ending(self, row, most):
+        log = self.straight({(question, thing): answer for question, thing, answer in row})
+        known = {tuple(row[1:3]): row[3] for row in log if row[0] == "ask"}
+        ranks = [(rank_of(self.kinds[row[1]], row[3]), place[1:]) for row, place in zip(log, self.placed(log))
+                 if row[0] == "ask"]
+        nodes = self.cover(most, {place: (rank, rank) for rank, place in ranks})
+        return self.told(nodes, lambda leaf: leaf[3] if ("end",) in leaf[2] else None, known)
+
+    @staticmethod
+    def asked_ahead(leaf, word, name):
+        """The ranges of what a leaf asks ahead of a row so begun, or None where it has none."""
+        begun = [row[:2] for row in leaf[2]]
+        if (word, name) not in begun:
+            return None
+        return leaf[3][:len([row for row in begun[:begun.index((word, name))] if row[0] == "ask"])]
+
+    def told(self, nodes, ranges_of, known=()):
+        for leaf in nodes:
+            if leaf[0] == "leaf" and ranges_of(leaf) is not None:
+                return "row", self.row_by(ranges_of(leaf), dict(known))
+        return "unknown" if any(node[:2] == ("leaf", False) for node in nodes) else "shut", nodes
+
+    def row_by(self, ranges, known):
+        """The answers of these ranges, one behind the other put where the straight going by those ahead is open."""
+        book = {}
+        for question, _, low, _ in ranges:
+            word, asked, thing = self.straight(book)[-1]
+            assert (word, asked) == ("open", question)
+            book[asked, thing] = known.get((asked, thing), self.kinds[asked].sample(low))
+        return [(*key, answer) for key, answer in book.items()]
+
+
+def plain_run(pages, book):
+    """A run as the document tells of it, page by page."""
+    number, place, thing, asked, log = 0, None, None, [], []
+    while True:
+        word, *rest = pages[number]
+        if word == "ask":
+            question, kind, each, number = rest
+            here = "" if each is None else thing
+            answer = book.get((question, here))
+            if not is_answer(kind_of(kind), answer):
+                return log + [("open", question, here)]
+            log.append(("ask", question, here, answer))
+            asked.append((question, here, answer, rank_of(kind_of(kind), answer)))
+        elif word == "compare":
+            question, own, how, compared, yes, no = rest
+            ranks = [row[3] for row in asked if row[:2] == (question, thing if own else "")]
+            number = yes if ranks and compared_so(ranks[0], how, compared) else no
+        elif word == "total":
+            terms, plus, how, compared, yes, no = rest
+            total = plus + sum(times * row[3] for times, question in terms for row in asked if row[0] == question)
+            number = yes if compared_so(total, how, compared) else no
+        elif word == "first":
+            place, number = 0, rest[1]
+        elif word == "more":
+            question, yes, no = rest
+            names = [row[2] for row in asked if row[0] == question]
+            number = no
+            if names and place < len(names[0]):
+                number, thing = yes, names[0][place]
+        elif word == "on":
+            place, number = place + 1, rest[0]
+        elif word == "end":
+            return log + [("end",)]
+        else:
+            log.append((word, rest[0], "" if rest[1] is None else thing))
+            if word == "held":
+                return log
+            number = rest[2]
+
+
+def compared_so(rank, how, number):
+    return {"<": rank < number, "=": rank == number, ">": rank > number}[how]

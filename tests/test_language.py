@@ -21,6 +21,8 @@ UNUSED_NAMES = set("""register mro elements open input version_info with_traceba
 UNUSED_WORDS = re.compile(r"\b(type|typing|typing_extensions|enum|Enum|IntEnum|StrEnum|Flag|IntFlag|Generic|Protocol"
                           r"|ABC|ABCMeta|namedtuple|NamedTuple|TypedDict|TYPE_CHECKING|abstractmethod)\b"
                           r"|dataclass|overload|contextmanager")
+WALKS = ("zip", "enumerate", "reversed", "range", "items", "keys", "values")
+WALKERS = ("list", "tuple", "dict", "sorted", "sum", "any", "all", "enumerate", "zip", "min", "max", "join")
 NODES = (
     ast.Module, ast.ImportFrom, ast.alias, ast.FunctionDef, ast.arguments, ast.arg, ast.ClassDef, ast.Lambda,
     ast.Assign, ast.AugAssign, ast.If, ast.While, ast.For, ast.Return, ast.Break, ast.Continue, ast.Pass, ast.Raise,
@@ -72,6 +74,21 @@ def names_where_classes_may_stand(tree):
         if isinstance(node, ast.ExceptHandler):
             places.extend(ast.walk(node.type))
     return [place for place in places if isinstance(place, ast.Name)]
+
+
+def called_name(call):
+    return call.func.attr if isinstance(call.func, ast.Attribute) else getattr(call.func, "id", None)
+
+
+def walked_at_once(tree):
+    """The nodes that stand where what is walked may stand."""
+    walked = []
+    for node in ast.walk(tree):
+        if isinstance(node, (ast.For, ast.comprehension)):
+            walked.append(node.iter)
+        if isinstance(node, ast.Call) and node.args and called_name(node) in WALKERS:
+            walked += node.args if called_name(node) == "zip" else node.args[:1]
+    return walked
 
 
 class LanguageTest(unittest.TestCase):
@@ -186,6 +203,22 @@ class LanguageTest(unittest.TestCase):
                 self.assertIn(node.attr, self.methods | self.fields | OWN_METHODS | UNDERSCORED, place)
             if isinstance(node, ast.Compare) and any(isinstance(op, (ast.Is, ast.IsNot)) for op in node.ops):
                 self.assertIsInstance(node.comparators[0], ast.Constant, place)
+
+    def test_methods_are_called_where_they_stand(self):
+        for tree in self.trees.values():
+            called = [node.func for node in ast.walk(tree) if isinstance(node, ast.Call)]
+            keys = [part.value for node in ast.walk(tree) if isinstance(node, ast.Call) for part in node.keywords
+                    if part.arg == "key"]
+            for node in ast.walk(tree):
+                if isinstance(node, ast.Attribute) and node.attr in (self.methods | OWN_METHODS) - self.fields:
+                    self.assertTrue(any(node is other for other in called + keys), ast.unparse(node))
+
+    def test_walks_are_walked_at_once(self):
+        for file, tree in self.trees.items():
+            walked = walked_at_once(tree)
+            for node in ast.walk(tree):
+                if isinstance(node, ast.Call) and called_name(node) in WALKS:
+                    self.assertTrue(any(node is other for other in walked), f"{file}:{node.lineno}")
 
 
 if __name__ == "__main__":
